@@ -4,7 +4,7 @@ Links are a dict from the names of lists to the names of their members. Lists th
 a way may not go through are left out of it, so that one search serves all questions.
 """
 
-from listpost.errors import BadBook
+from listpost.errors import BadBook, NoList
 from listpost.names import are_names, check_letter, check_name, in_order, is_name, place
 
 
@@ -31,6 +31,18 @@ def check_sent(book, sender, names):
     """Refuse what is no book, then what is no letter."""
     check_book(book)
     check_letter(sender, names)
+
+
+def check_list(lists, name):
+    """Refuse what is no name, then what isn't among the names of the lists."""
+    check_name(name)
+    if name not in lists:
+        raise NoList("the name is no list's")
+
+
+def copied(book):
+    """The book once more, with lists of its own."""
+    return [(name, list(members), list(left), gate) for name, members, left, gate in book]
 
 
 def all_links(book):
@@ -120,20 +132,29 @@ def arrived(book, links, names):
     return in_order(found)
 
 
+def carried(book, links, names):
+    """The people to whom a letter comes by the links, and the lists at which it comes to an end, each in order."""
+    lists = all_links(book)
+    held = [name for name in spread(links, names) if name in lists and name not in links]
+    return (arrived(book, links, names), in_order(held))
+
+
+def stood_for(book, name):
+    """All people for whom a name stands, in order, by what is known to be a book."""
+    check_name(name)
+    return arrived(book, all_links(book), [name])
+
+
 def people(book, name):
     """All people for whom a name stands, in order."""
     check_book(book)
-    check_name(name)
-    return arrived(book, all_links(book), [name])
+    return stood_for(book, name)
 
 
 def reached(book, sender, names):
     """The people whom a letter reaches, and the lists that hold it, each in order."""
     check_sent(book, sender, names)
-    lists = all_links(book)
-    links = open_links(book, sender)
-    held = [name for name in spread(links, names) if name in lists and name not in links]
-    return (arrived(book, links, names), in_order(held))
+    return carried(book, open_links(book, sender), names)
 
 
 def departed(links):

@@ -22,7 +22,7 @@ BUILTINS = set(
 METHODS = set(
     "append clear copy count endswith extend find get index insert isalnum isalpha isdigit islower isspace isupper"
     " items join keys ljust lower lstrip partition pop remove replace reverse rfind rjust rpartition rsplit rstrip"
-    " setdefault split splitlines startswith strip update upper values zfill bit_length".split())
+    " setdefault split splitlines startswith strip update upper values zfill bit_length removeprefix".split())
 SPECIAL_METHODS = {"__init__"}
 NODES = (
     ast.Module, ast.Expr, ast.Constant, ast.ImportFrom, ast.alias, ast.FunctionDef, ast.arguments, ast.arg,
@@ -99,7 +99,8 @@ class LanguageTest(unittest.TestCase):
             self.assertEqual(node.level, 0)
             package, _, module = node.module.partition(".")
             self.assertEqual(package, "listpost")
-            defined = {part.name for part in self.trees[module].body if hasattr(part, "name")}
+            defined = {found for part in self.trees[module].body if not isinstance(part, ast.ImportFrom)
+                       for found in self.top_names(part)}
             for alias in node.names:
                 self.assertIn(alias.name, defined)
 
@@ -161,6 +162,126 @@ class LanguageTest(unittest.TestCase):
                 if isinstance(node, ast.Assign):
                     with self.subTest(file=name, line=node.lineno):
                         self.assertIsInstance(ast.literal_eval(node.value), (int, str, bytes, tuple))
+
+    def test_no_file_imports_itself_through_others(self):
+        needs = {name: {node.module.partition(".")[2] for node in tree.body if isinstance(node, ast.ImportFrom)}
+                 for name, tree in self.trees.items()}
+        for name in needs:
+            come, waiting = set(), set(needs[name])
+            while waiting:
+                come |= waiting
+                waiting = set().union(*[needs[other] for other in waiting]) - come
+            self.assertNotIn(name, come)
+
+    def test_imports_are_used(self):
+        for name, node in self.each(ast.ImportFrom):
+            read = {found.id for found in ast.walk(self.trees[name]) if isinstance(found, ast.Name)}
+            self.assertEqual({alias.name for alias in node.names} - read, set())
+
+    def test_classes_and_their_bases(self):
+        own = {node.name for name, node in self.each(ast.ClassDef)}
+        for name, node in self.each(ast.ClassDef):
+            self.assertEqual((node.decorator_list, node.keywords), ([], []))
+            self.assertTrue({base.id for base in node.bases} <= own | {"ValueError"})
+            parts = [part.name for part in node.body if isinstance(part, ast.FunctionDef)]
+            self.assertEqual(len(parts), len(set(parts)))
+            for part in node.body:
+                self.assertIsInstance(part, (ast.FunctionDef, ast.Expr))
+
+    def parents(self, name):
+        return {child: node for node in ast.walk(self.trees[name]) for child in ast.iter_child_nodes(node)}
+
+    def test_classes_are_only_called_or_bases(self):
+        own = {node.name for name, node in self.each(ast.ClassDef)}
+        for name in self.trees:
+            parents = self.parents(name)
+            for node, parent in parents.items():
+                if isinstance(node, ast.Name) and node.id in own:
+                    with self.subTest(file=name, line=node.lineno):
+                        called = isinstance(parent, ast.Call) and parent.func is node
+                        self.assertTrue(called or isinstance(parent, ast.ClassDef))
+
+    def test_builtins_are_called_where_they_stand(self):
+        for name in self.trees:
+            for node, parent in self.parents(name).items():
+                if isinstance(node, ast.Name) and node.id in BUILTINS - {"ValueError"}:
+                    with self.subTest(file=name, line=node.lineno):
+                        self.assertIsInstance(parent, ast.Call)
+                        self.assertTrue(parent.func is node or parent.func.id == "isinstance")
+
+    def test_what_is_iterated_at_once(self):
+        takers = ("list", "tuple", "dict", "sorted", "sum", "any", "all", "enumerate", "zip", "min", "max")
+        for name in self.trees:
+            for node, parent in self.parents(name).items():
+                if isinstance(node, ast.Call):
+                    word = getattr(node.func, "id", getattr(node.func, "attr", ""))
+                    if word in ("zip", "enumerate", "reversed", "range", "items", "keys", "values"):
+                        with self.subTest(file=name, line=node.lineno):
+                            looped = isinstance(parent, (ast.For, ast.comprehension)) and parent.iter is node
+                            taken = isinstance(parent, ast.Call) and getattr(parent.func, "id", "") in takers
+                            self.assertTrue(looped or taken)
+
+    def test_generators_stand_only_where_they_are_used_up(self):
+        for name in self.trees:
+            for node, parent in self.parents(name).items():
+                if isinstance(node, ast.GeneratorExp):
+                    with self.subTest(file=name, line=node.lineno):
+                        self.assertIsInstance(parent, ast.Call)
+                        self.assertIn(parent.func.id, ("any", "all"))
+
+    def test_loops_do_not_change_what_they_go_through(self):
+        changing = {"append", "clear", "extend", "insert", "pop", "remove", "reverse", "setdefault", "update"}
+        for name, loop in self.each(ast.For):
+            through = {ast.dump(node) for node in ast.walk(loop.iter) if isinstance(node, (ast.Name, ast.Attribute))}
+            for node in [found for part in loop.body for found in ast.walk(part)]:
+                if isinstance(node, ast.Call) and isinstance(node.func, ast.Attribute) and node.func.attr in changing:
+                    self.assertNotIn(ast.dump(node.func.value), through)
+                if isinstance(node, ast.Subscript) and not isinstance(node.ctx, ast.Load):
+                    self.assertNotIn(ast.dump(node.value).replace("Store", "Load").replace("Del", "Load"), through)
+
+    def test_errors_are_made_on_the_spot(self):
+        own = {node.name for node in self.trees["errors"].body if isinstance(node, ast.ClassDef)}
+        for name, node in self.each(ast.Raise):
+            self.assertIsInstance(node.exc, ast.Call)
+            self.assertIn(node.exc.func.id, own)
+            self.assertEqual(node.exc.keywords, [])
+
+    def test_defaults_and_keywords(self):
+        for name, node in self.each(ast.arguments):
+            self.assertTrue(all(isinstance(default, ast.Constant) for default in node.defaults))
+            self.assertEqual((node.kwonlyargs, node.vararg, node.kwarg), ([], None, None))
+        for name, node in self.each(ast.Call):
+            words = {word.arg for word in node.keywords}
+            if words:
+                self.assertIn(node.func.id, ("sorted", "min", "max"))
+                self.assertTrue(words <= {"key", "default"})
+
+    def test_calls_pass_what_functions_take(self):
+        takes = {}
+        for name, node in self.each(ast.FunctionDef):
+            takes.setdefault(node.name, set()).add((len(node.args.args) - len(node.args.defaults), len(node.args.args)))
+        for name, tree in self.trees.items():
+            top = {part.name for part in tree.body if isinstance(part, ast.FunctionDef)}
+            top |= {alias.name for part in tree.body if isinstance(part, ast.ImportFrom) for alias in part.names}
+            for node in ast.walk(tree):
+                if isinstance(node, ast.Call) and isinstance(node.func, ast.Name) and node.func.id in takes:
+                    if node.func.id in top and len(takes[node.func.id]) == 1:
+                        with self.subTest(file=name, line=node.lineno):
+                            (least, most), = takes[node.func.id]
+                            self.assertTrue(least <= len(node.args) <= most)
+
+    def test_escapes(self):
+        for name, text in self.texts.items():
+            with self.subTest(file=name):
+                self.assertIsNone(re.search(r"\\[^nt\\'\"]", text))
+                self.assertNotIn("\t", text)
+
+    def test_methods_of_the_interface_stand_in_their_classes(self):
+        told = {"Post": "book people found enter strike leave come_back bar send held let drop got letter twin".split()}
+        told.update({kind: ["shows"] for kind in ("Way", "Shut", "Cut", "Named")})
+        for name, node in self.each(ast.ClassDef):
+            methods = {part.name for part in node.body if isinstance(part, ast.FunctionDef)}
+            self.assertTrue(set(told.get(node.name, ())) <= methods)
 
 
 if __name__ == "__main__":

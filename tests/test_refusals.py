@@ -4,7 +4,11 @@ import unittest
 
 from listpost.answers import Cut, Named, Shut, Way
 from listpost.books import people, reached, rings
+from listpost.changes import answer, apart, drawn_in, split_off
 from listpost.errors import BadBook, BadName, BadNames
+from listpost.post import Post
+from listpost.texts import written
+from listpost.ways import cut, why
 from tests import plain
 
 GOOD = [("a", ["p"], [], None), ("b", ["a", "q"], ["p"], "a"), ("c", [], [], "c")]
@@ -15,11 +19,20 @@ TAKE_LETTERS = {
     "Shut.shows": lambda book, sender, names: Shut([]).shows(book, sender, names, "p"),
     "Cut.shows": lambda book, sender, names: Cut([], []).shows(book, sender, names, "p"),
     "Named.shows": lambda book, sender, names: Named().shows(book, sender, names, "p"),
+    "why": lambda book, sender, names: why(book, sender, names, "p"),
+    "cut": lambda book, sender, names: cut(book, sender, names, "p"),
+    "Post.send": lambda book, sender, names: Post(book).send(sender, names),
 }
 
 TAKE_BOOKS = {
     "people": lambda book: people(book, "a"),
     "rings": rings,
+    "apart, one": lambda book: apart(book, []),
+    "apart, other": lambda book: apart([], book),
+    "drawn_in": lambda book: drawn_in(book, "a"),
+    "split_off": lambda book: split_off(book, "a", ["p"], "n"),
+    "written": written,
+    "Post": Post,
     **{name: (lambda book, ask=ask: ask(book, "p", ["a"])) for name, ask in TAKE_LETTERS.items()},
 }
 
@@ -121,6 +134,7 @@ class BadNamesTest(unittest.TestCase):
             for names in ([thing], [thing, "a", "b"], ["a", thing, "b"], ["a", "b", thing]):
                 with self.subTest(names=names):
                     self.assertRaises(BadNames, reached, GOOD, "p", names)
+                    self.assertRaises(BadNames, answer, "p", names, "q")
 
     def test_twice_at_each_place(self):
         for names in (["a", "a"], ["a", "a", "b"], ["b", "a", "a"], ["a", "b", "a"]):
