@@ -34,7 +34,7 @@ def read_row(row):
     """What a row tells in an entry's places, be it right or not; None if not even the places are there."""
     head, *parts = [part.strip(" ") for part in row.split(";")]
     name, colon, inside = head.partition(":")
-    members = parted(inside) if inside.strip(" ") else []
+    members = parted(inside) if inside else []
     left = []
     gate = None
     if parts and parts[0].startswith(LEFT):

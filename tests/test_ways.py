@@ -200,6 +200,13 @@ class CutTest(unittest.TestCase):
         told = self.told(book, "s", ["s"], "p", 2)
         self.assertEqual(sorted(told.ways), [["s", "a", "c", "cc", "p"], ["s", "b", "bb", "d", "p"]])
 
+    def test_step_taken_back_and_gone_the_other_way(self):
+        # The shortest way s-a-d-p has to be taken back, and one of the three ways needs the step from d to a.
+        book = [("s", ["a", "b", "e"], [], None), ("a", ["d", "c", "f"], [], None), ("b", ["bb"], [], None),
+                ("bb", ["d"], [], None), ("e", ["ee"], [], None), ("ee", ["d"], [], None), ("d", ["p", "a"], [], None),
+                ("c", ["cc"], [], None), ("cc", ["p"], [], None), ("f", ["ff"], [], None), ("ff", ["p"], [], None)]
+        self.told(book, "s", ["s"], "p", 3)
+
     def test_two_lists_that_are_members_of_each_other(self):
         book = [("a", ["b", "p"], [], None), ("b", ["a", "p"], [], None)]
         self.told(book, "s", ["a"], "p", 2)
@@ -218,7 +225,9 @@ class CutTest(unittest.TestCase):
         names = ["zz", "b", "aa", "a", "ccc"]
         book = [("top", names, [], None), *[(name, ["p"], [], None) for name in names]]
         told = self.told(book, "s", ["top"], "p", 5)
-        self.assertEqual(told.pairs, sorted(told.pairs, key=lambda pair: [plain.place(name) for name in pair]))
+        self.assertEqual(told.pairs, [("top", name) for name in ["a", "b", "aa", "zz", "ccc"]])
+        told = self.told(book, "s", names, "p", 5)
+        self.assertEqual(told.pairs, [(name, "p") for name in ["a", "b", "aa", "zz", "ccc"]])
 
     def test_random_books(self):
         for book, sender, names in plain.random_cases(32, 400):
@@ -237,7 +246,7 @@ class CutTest(unittest.TestCase):
         for _ in range(60):
             many = chance.randint(1, 5)
             book = [(name, chance.sample([*lists, "p", "q"], many), chance.sample(["p", "q"], chance.choice([0, 0, 1])),
-                     None) for name in lists]
+                     None) for name in chance.sample(lists, len(lists))]
             for person in ("p", "q"):
                 names = chance.sample(lists, 3)
                 with self.subTest(book=book, names=names, person=person):
